@@ -1,0 +1,1 @@
+"""landways: rights of way over land that goes from hand to hand."""
