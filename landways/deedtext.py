@@ -41,11 +41,10 @@ def _read_goes(parts):
     if "to" not in parts:
         return None
     at = parts.index("to")
-    hand, rest = parts[at + 1:at + 2], parts[at + 2:]
-    if len(hand) == 0 or (rest and rest[0] != "told"):
+    if at + 1 == len(parts):
         return None
-    told = [_numbers(part.split(">")) for part in rest[1:]]
-    return ("goes", _numbers(parts[:at]), _number(hand[0]), told)
+    told = [_numbers(part.split(">")) for part in parts[at + 3:]]
+    return ("goes", _numbers(parts[:at]), _number(parts[at + 1]), told)
 
 
 def _read_gift(parts):
@@ -100,17 +99,6 @@ def _read_custom(rows, place):
         raise BadText(place, "custom") from None
 
 
-def _read_deeds(land, rows):
-    """The deeds of the rows ahead of the first one that tells none."""
-    deeds = []
-    for row in rows:
-        deed = _read_deed(land, row)
-        if deed is None:
-            break
-        deeds.append(deed)
-    return deeds
-
-
 def parse_history(text):
     """The history with exactly this text."""
     if not isinstance(text, str):
@@ -120,12 +108,9 @@ def parse_history(text):
     land = parse_land("\n".join(rows[:place]))
     custom = _read_custom(rows, place)
     first = place + 1
-    deeds = _read_deeds(land, rows[first:])
-    # A deed that cannot be done stands in an earlier row than the first row that tells none.
+    # A row that tells no deed becomes None here, which no history takes for a deed.
+    deeds = [_read_deed(land, row) for row in rows[first:]]
     try:
-        history = History(land, custom, deeds)
+        return History(land, custom, deeds)
     except BadHistory as fault:
         raise BadText(first + fault.index, fault.what) from None
-    if first + len(deeds) < len(rows):
-        raise BadText(first + len(deeds), "deed")
-    return history

@@ -119,6 +119,11 @@ class Rehanded(unittest.TestCase):
             self.assertEqual(rehanded(HISTORY, pairs), HISTORY)
         self.assertEqual(caught(lambda: rehanded(History(ROW, EXAMPLE), [(1, 0), (2, 1)])), None)
 
+    def test_hand_0_counts_where_no_deed_names_it(self):
+        history = History(ROW, EXAMPLE, [("goes", [2], 1, [])])
+        self.assertEqual(caught(lambda: rehanded(history, [(1, 0)])), ("BadPairs", "alike"))
+        self.assertEqual(rehanded(history, [(2, 0), (5, 1)]), history)
+
     def test_states_stay_equal(self):
         for history in some_histories(13, many=9):
             other = rehanded(history, [(1, 4), (2, 10 ** 30), (4, 2)])

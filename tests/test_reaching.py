@@ -76,6 +76,8 @@ class Reaching(unittest.TestCase):
         self.assertEqual(least_lots(RING, 1, [], [0, 1, 2, 3]), ((0,), (2,)))
         self.assertEqual(least_lot(RING, 1, [], [3, 2, 1, 0]), (0,))
         self.assertEqual(least_lots(FORK, 0, [], [2, 3]), ((2, 3),))
+        self.assertEqual(least_lots(FORK, 0, [], (3, 2)), ((2, 3),))
+        self.assertEqual(least_lots(HOUSE, 1, [4], [3, 2, 0]), ((0, 3), (2, 3)))
         self.assertEqual(least_lots(FORK, 0, [2], [1, 3]), ((1,), (3,)))
         self.assertEqual(least_lots(HOUSE, 1, (4,), [0, 2, 3]), ((0, 3), (2, 3)))
 
