@@ -12,7 +12,7 @@ class Counted:
         if not isinstance(untold, bool):
             raise BadCounted("untold")
         if not isinstance(giving_up, bool):
-            raise BadCounted("giving_up")
+            raise BadCounted("giving up")
         self.grants = grants
         self.untold = untold
         self.giving_up = giving_up

@@ -29,7 +29,7 @@ class Counting(unittest.TestCase):
         for thing in NO_TRUTHS:
             self.assertEqual(caught(lambda: Counted(thing, thing, thing)), ("BadCounted", "grants"))
             self.assertEqual(caught(lambda: Counted(True, thing, thing)), ("BadCounted", "untold"))
-            self.assertEqual(caught(lambda: Counted(False, False, thing)), ("BadCounted", "giving_up"))
+            self.assertEqual(caught(lambda: Counted(False, False, thing)), ("BadCounted", "giving up"))
 
     def test_counteds(self):
         self.assertEqual([row(counted) for counted in counteds()], ROWS)
