@@ -27,6 +27,11 @@ class Counted:
                 and (other.giving_up or not self.giving_up))
 
 
+def meant(counted):
+    """The Counted that is meant: the usual one where None is passed."""
+    return Counted() if counted is None else counted
+
+
 def counteds():
     """Yield all eight, by grants, then untold, then giving_up, False ahead of True."""
     for grants in (False, True):

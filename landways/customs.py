@@ -1,6 +1,6 @@
 """Customs: one word for each of five clauses [2.1], [2.2], [2.3]."""
 
-from landways.errors import BadClause, BadCustom, BadNumber
+from landways.errors import BadClause, BadCustom, BadNumber, NeedsLand
 from landways.lands import is_whole
 
 CLAUSES = ("untold", "joined", "sold", "kept", "ends")
@@ -89,3 +89,10 @@ def customs():
 def differences(one, other):
     """The clauses in which two customs differ, in order."""
     return tuple([clause for clause in CLAUSES if one.word(clause) != other.word(clause)])
+
+
+def check_sides(custom, word):
+    """Refuse a custom of which sold, or else kept, is this word, with which an answer hangs on the land."""
+    for clause in ("sold", "kept"):
+        if custom.word(clause) == word:
+            raise NeedsLand(clause)

@@ -5,10 +5,10 @@ from landways.reaching import least_lot, opens
 from landways.states import RIGHTS, State, passed_cells
 
 # The standings that end as they go on untold, by the word of the clause.
-_DYING = {"stay": (), "die": ("awake", "needed"), "needed stay": ("awake",)}
-_JOINED = {"die": "none", "sleep": "asleep"}
+DYING = {"stay": (), "die": ("awake", "needed"), "needed stay": ("awake",)}
+JOINED = {"die": "none", "sleep": "asleep"}
 # For a grant and its like: the first stage, the standings that it changes, and into which.
-_GIFTS = {"grant": ("granted", ("none", "needed"), "awake"), "gives": ("given", ("awake", "needed"), "none")}
+GIFTS = {"grant": ("granted", ("none", "needed"), "awake"), "gives": ("given", ("awake", "needed"), "none")}
 
 
 def _with_word(standings, couples, olds, word):
@@ -20,12 +20,12 @@ def _with_word(standings, couples, olds, word):
     return tuple([tuple(row) for row in rows])
 
 
-def _fresh_standing(word):
+def fresh_standing(word):
     """The standing of a right that arises by this word of the clauses sold and kept."""
     return "needed" if word == "need" else "awake"
 
 
-def _cells_over(land, hands, row, a, word, fresh):
+def cells_over(land, hands, row, a, word, fresh):
     """Over which of the fresh cells a right of the cell arises by this word."""
     if word == "none":
         return ()
@@ -44,17 +44,16 @@ def _arisen(custom, land, ahead, now, standings):
         word = custom.kept if ahead[a] == now[a] else custom.sold
         parted = [b for b in range(land.cells) if ahead[a] == ahead[b] and now[a] != now[b]]
         fresh = [b for b in parted if standings[a][b] == "none"]
-        over = [(a, b) for b in _cells_over(land, now, standings[a], a, word, fresh)]
-        standings = _with_word(standings, over, ("none",), _fresh_standing(word))
+        over = [(a, b) for b in cells_over(land, now, standings[a], a, word, fresh)]
+        standings = _with_word(standings, over, ("none",), fresh_standing(word))
     return standings
 
 
-def _ended_row(land, hands, row, a):
+def ended_row(land, hands, row, a):
     """The cell's row of standings without the needed rights without which it is open."""
     left = list(row)
-    for b in range(land.cells):
-        passing = [c for c in passed_cells(hands, left, a) if c != b]
-        if left[b] == "needed" and opens(land, a, passing):
+    for b, word in enumerate(row):
+        if word == "needed" and opens(land, a, [c for c in passed_cells(hands, left, a) if c != b]):
             left[b] = "none"
     return tuple(left)
 
@@ -63,7 +62,7 @@ def _ended(custom, land, hands, standings):
     """The standings behind the stage "ended"."""
     if custom.ends == "never":
         return standings
-    return tuple([_ended_row(land, hands, row, a) for a, row in enumerate(standings)])
+    return tuple([ended_row(land, hands, row, a) for a, row in enumerate(standings)])
 
 
 def _gone(custom, state, deed):
@@ -71,10 +70,10 @@ def _gone(custom, state, deed):
     ahead = state.hands
     now = hands_behind(state, deed)
     rows = [("hands", now, state.standings)]
-    standings = _with_word(state.standings, couples_untold(state, deed), _DYING[custom.untold], "none")
+    standings = _with_word(state.standings, couples_untold(state, deed), DYING[custom.untold], "none")
     rows.append(("untold", now, standings))
     joined = couples_leaving(state.land, now, ahead)
-    standings = _with_word(standings, joined, RIGHTS, _JOINED[custom.joined])
+    standings = _with_word(standings, joined, RIGHTS, JOINED[custom.joined])
     rows.append(("joined", now, standings))
     parted = couples_leaving(state.land, ahead, now)
     standings = _with_word(standings, parted, ("asleep",), "awake")
@@ -87,7 +86,7 @@ def _gone(custom, state, deed):
 
 def _given(custom, state, deed):
     """The rows of a deed that grants or gives up."""
-    stage, olds, word = _GIFTS[deed[0]]
+    stage, olds, word = GIFTS[deed[0]]
     couples = [(a, b) for a in deed[1] for b in deed[2]]
     standings = _with_word(state.standings, couples, olds, word)
     ended = _ended(custom, state.land, state.hands, standings)

@@ -21,7 +21,7 @@ def _are_hands(land, thing):
     return all([is_whole(hand, 0, MOST_HAND) for hand in thing])
 
 
-def _is_row(land, a, thing):
+def is_row(land, a, thing):
     """Whether the thing is a sequence of one standing of a over each cell, "none" over a itself."""
     if not is_sequence(thing) or len(thing) != land.cells:
         return False
@@ -32,7 +32,7 @@ def _are_standings(land, thing):
     """Whether the thing is a sequence of one row of standings for each cell."""
     if not is_sequence(thing) or len(thing) != land.cells:
         return False
-    return all([_is_row(land, a, row) for a, row in enumerate(thing)])
+    return all([is_row(land, a, row) for a, row in enumerate(thing)])
 
 
 def _check_places(land, hands, standings):

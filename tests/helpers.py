@@ -1,6 +1,7 @@
 """What several tests share: how errors are looked at, odd things, lands, and histories without end."""
 
 import random
+from itertools import combinations
 
 from landways.customs import custom_at
 from landways.deeds import deed_fault
@@ -8,7 +9,8 @@ from landways.errors import LandError
 from landways.histories import History
 from landways.lands import Land
 from landways.playing import after
-from landways.states import start_state
+from landways.states import State, start_state
+from landways.viewtext import parse_view
 
 # Things that are no number, no cell, no hand and no sequence of such.
 NO_NUMBERS = (True, False, None, "0", "a", "", 0.0, 1.0, (), [], (0,), {}, set(), object())
@@ -67,3 +69,33 @@ def some_histories(seed, customs=range(192), many=12, lands=LANDS):
         land = lands[k % len(lands)]
         custom = custom_at(number)
         yield History(land, custom, some_deeds(source, land, custom, many))
+
+
+def subsets(cells):
+    """All subsets as ascending tuples: fewer cells first, then as tuples are ordered."""
+    cells = sorted(cells)
+    return [lot for many in range(len(cells) + 1) for lot in combinations(cells, many)]
+
+
+def look(land, text):
+    """The view with this text."""
+    return parse_view(land, text)
+
+
+def tuples_only(thing):
+    """Whether a thing that is returned is made of tuples, and of things that are no sequences."""
+    if isinstance(thing, (list, set, dict)):
+        return False
+    return not isinstance(thing, tuple) or all(tuples_only(part) for part in thing)
+
+
+def some_states(seed, many, lands=LANDS):
+    """Yield states that no history need bring about."""
+    source = random.Random(seed)
+    for k in range(many):
+        land = lands[k % len(lands)]
+        hands = [source.randint(0, 2) for _ in range(land.cells)]
+        table = [["none"] * land.cells for _ in range(land.cells)]
+        for a, b in land.couples:
+            table[a][b] = source.choice(["none", "asleep"] if hands[a] == hands[b] else ["none", "awake", "needed"])
+        yield State(land, hands, table)
