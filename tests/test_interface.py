@@ -6,8 +6,14 @@ import unittest
 
 from helpers import ROW
 from landways.customs import custom_at
+from landways.everyland import on_all_lands
 from landways.histories import History
+from landways.joint import start_joint
+from landways.jointtables import joint_table
 from landways.states import start_state
+from landways.steps import Give, Leave
+from landways.tables import view_table
+from landways.views import start_view
 
 FUNCTIONS = {
     "lands": "is_whole(thing, low, high); are_cells(many, thing, least); is_cell(land, thing); "
@@ -35,6 +41,45 @@ FUNCTIONS = {
     "moved": "carried_deed(order, deed); carried_state(order, state); carried_history(order, history); "
              "rehanded(history, pairs); plain_hands(history); trimmed(history)",
     "deedtext": "deed_text(deed); history_text(history); parse_deed(land, text); parse_history(text)",
+    "views": "view_at(land, cell, number); start_view(land, cell); view_of(state, cell); all_views(land, cell)",
+    "viewtext": "view_text(view); parse_view(land, text)",
+    "steps": "step_fault(view, step)",
+    "seeing": "step_changes(custom, view, step); see_step(custom, view, step); settled_view(custom, view); "
+              "is_settled_view(custom, view); step_of(state, cell, deed)",
+    "listing": "mortal_rights(custom, view); plain_step(custom, view, step); plain_steps(custom, view, counted=None); "
+               "number_of_steps(custom, view, counted=None)",
+    "gathering": "gather_deeds(state, cells); bring_step(state, cell, step); stepped_history(history, cell, steps)",
+    "tables": "view_table(land, custom, cell, counted=None); table_behind(history, cell, counted=None); "
+              "ways_of(table, other)",
+    "walks": "first_leaving(table); all_dangers(table); danger_of(table, view); safe_views(table); lost_views(table); "
+             "view_walk(history, cell); retold(history, cell, counted=None)",
+    "verdicts": "verdict_behind(history, cell, counted=None); verdict_of(land, custom, cell, counted=None); "
+                "is_never(land, custom, cell, counted=None); anybody_behind(history, counted=None); "
+                "anybody(land, custom, counted=None); shuttable(land, custom, counted=None)",
+    "tablejudge": "table_fault(table); verdict_fault(history, cell, counted, told); anybody_fault(history, counted, told)",
+    "everyland": "sort_of(land, cell); probe_land(word); on_all_lands(custom, counted=None); "
+                 "fewest_deeds(land, custom, cell, counted=None); shutting(land, custom, cell, counted=None)",
+    "leading": "lead_deed(land, cell, deed); lead_over(history, land, cell)",
+    "twocells": "pair_of(state, a, b); pair_after(custom, pair, event, *, near=True); "
+                "pair_states(custom, counted=None, *, near=True); events_to(custom, counted, pair, *, near=True); "
+                "play_events(custom, events)",
+    "safety": "is_safe_pair(custom, counted, pair, *, near=True); safe_cells(history, cell, counted=None); "
+              "can_be_shut(history, cell, counted=None); stripping(history, cell, counted=None); "
+              "safe_couples(history, counted=None)",
+    "joint": "joint_view(state, first, second); start_joint(land, first, second); all_joint_views(land, first, second)",
+    "jointsteps": "joint_step_of(custom, state, first, second, deed); joint_steps(custom, joint, counted=None); "
+                  "joint_seen(custom, joint, pair); joint_brought(history, first, second, pair)",
+    "jointtables": "joint_table(land, custom, first, second, counted=None); "
+                   "joint_table_behind(history, first, second, counted=None); joint_table_fault(told)",
+    "burdens": "meets(joint, question); meet(land, custom, first, second, question, counted=None); "
+               "meet_behind(history, first, second, question, counted=None); "
+               "double_burden(land, custom, cell, counted=None); doubly_burdened(land, custom, counted=None)",
+}
+CONSTANTS = {
+    "tables": {"WAYS": ("own", "asleep", "none", "awake", "needed")},
+    "twocells": {"PAIRS": ("own", "asleep", "none", "awake", "needed"),
+                 "EVENTS": ("sold", "kept", "joined", "untold", "grant", "gives")},
+    "jointtables": {"JOINT_CELLS": 3}, "burdens": {"QUESTIONS": ("both", "one", "crossed", "needs", "double")},
 }
 CLASSES = {
     ("lands", "Land"): "__init__(self, cells, neighbours, roads); is_neighbour(self, one, other); "
@@ -49,10 +94,35 @@ CLASSES = {
     ("histories", "History"): "__init__(self, land, custom, deeds=()); states(self); state_at(self, many); "
                               "until(self, many); then(self, *deeds); first_shut(self, cell); "
                               "is_counted(self, counted); __len__(self); __iter__(self); __eq__(self, other)",
+    ("views", "View"): "__init__(self, land, cell, own, standings); passing(self); is_open(self); way_of(self, b); "
+                       "__eq__(self, other)",
+    ("steps", "Step"): "own_behind(self, view); __eq__(self, other)",
+    ("steps", "Leave"): "__init__(self, cells, untold=()); own_behind(self, view); __eq__(self, other)",
+    ("steps", "Come"): "__init__(self, cells); own_behind(self, view); __eq__(self, other)",
+    ("steps", "Go"): "__init__(self, cells, held=()); own_behind(self, view); __eq__(self, other)",
+    ("steps", "Grant"): "__init__(self, cells); own_behind(self, view); __eq__(self, other)",
+    ("steps", "Give"): "__init__(self, cells); own_behind(self, view); __eq__(self, other)",
+    ("tables", "Table"): "__init__(self, past, cell, counted, rows); distance(self, view); way_to(self, view); "
+                         "history_of(self, view); is_within(self, other); __len__(self); __iter__(self); "
+                         "__contains__(self, view); __eq__(self, other)",
+    ("verdicts", "Never"): "__init__(self, table)", ("verdicts", "Shut"): "__init__(self, cell, history, steps)",
+    ("verdicts", "Nobody"): "__init__(self, tables)",
+    ("everyland", "EveryLand"): "__init__(self, custom, counted, far, loose, bound); fewest(self, land, cell); "
+                                "exposed(self, land); __eq__(self, other)",
+    ("joint", "JointView"): "__init__(self, first, second); turned(self); __eq__(self, other)",
+    ("jointtables", "JointTable"): "__init__(self, past, cells, counted, rows); distance(self, joint); "
+                                   "history_of(self, joint); views_of(self, cell); __len__(self); __iter__(self); "
+                                   "__contains__(self, joint); __eq__(self, other)",
+    ("burdens", "NeverMet"): "__init__(self, question, told)",
+    ("burdens", "Met"): "__init__(self, question, history, steps)",
 }
-PROPERTIES = {("lands", "Land"): ["couples"], ("states", "State"): ["shut", "lots"], ("histories", "History"): ["state"]}
+PROPERTIES = {("lands", "Land"): ["couples"], ("states", "State"): ["shut", "lots"], ("histories", "History"): ["state"],
+              ("tables", "Table"): ["views"], ("everyland", "EveryLand"): ["nowhere", "everywhere"],
+              ("joint", "JointView"): ["alike", "beyond", "both_shut", "one_shut", "crossed", "needs", "doubled"]}
 GENERATORS = [("likeness", "likenesses"), ("landforms", "all_lands"), ("customs", "customs"), ("counted", "counteds"),
-              ("playing", "stages"), ("reasons", "ledger"), ("reasons", "shuttings")]
+              ("playing", "stages"), ("reasons", "ledger"), ("reasons", "shuttings"), ("views", "all_views"),
+              ("seeing", "step_changes"), ("listing", "plain_steps"), ("walks", "view_walk"),
+              ("joint", "all_joint_views"), ("jointsteps", "joint_steps")]
 
 
 def module(name):
@@ -81,6 +151,16 @@ class Interface(unittest.TestCase):
             for word in PROPERTIES.get((name, title), []):
                 self.assertIsInstance(vars(found)[word], property)
 
+    def test_constants(self):
+        for name, listed in CONSTANTS.items():
+            for title, value in listed.items():
+                self.assertEqual(getattr(module(name), title), value)
+
+    def test_kinds_of_steps_are_under_step(self):
+        steps = module("steps")
+        for title in ("Leave", "Come", "Go", "Grant", "Give"):
+            self.assertTrue(issubclass(getattr(steps, title), steps.Step))
+
     def test_generators(self):
         for name, title in GENERATORS:
             self.assertTrue(inspect.isgeneratorfunction(getattr(module(name), title)), title)
@@ -89,6 +169,12 @@ class Interface(unittest.TestCase):
     def test_attributes_are_set_when_an_object_is_made(self):
         for thing, names in [(ROW, "cells neighbours roads"), (start_state(ROW), "land hands standings"),
                              (custom_at(0), "untold joined sold kept ends row number"),
-                             (History(ROW, custom_at(0)), "land custom deeds")]:
+                             (History(ROW, custom_at(0)), "land custom deeds"),
+                             (start_view(ROW, 2), "land cell own standings outside rights needed sleeping number"),
+                             (Leave([0]), "kind cells others"), (Give([0]), "kind cells others"),
+                             (view_table(ROW, custom_at(0), 2), "past cell counted rows land custom"),
+                             (on_all_lands(custom_at(0)), "custom counted far loose bound"),
+                             (start_joint(ROW, 1, 2), "first second land cells"),
+                             (joint_table(ROW, custom_at(0), 1, 2), "past cells counted rows joints land custom")]:
             for name in names.split():
                 self.assertIn(name, vars(thing))
