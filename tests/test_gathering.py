@@ -81,7 +81,9 @@ class Bringing(unittest.TestCase):
         self.assertIn(len(deeds), (1, 2))
         for place, deed in enumerate(deeds):
             self.assertIsNone(deed_fault(state, deed))
-            if place < len(deeds) - 1:
+            if place == len(deeds) - 1:
+                self.assertEqual(step_of(state, cell, deed), None if step == Go(view.own) else step)
+            else:
                 self.assertEqual(deed[0], "goes")
                 self.assertTrue(set(deed[1]) <= set(view.outside))
                 self.assertIsNone(step_of(state, cell, deed))

@@ -106,6 +106,21 @@ class Language(unittest.TestCase):
         for name in yielding:
             self.assertEqual(len([node for node in found if node.name == name]), 1, name)
 
+    def test_names_of_properties_mean_nothing_else(self):
+        nodes = [(node, part) for _, tree in trees() for node in ast.walk(tree) if isinstance(node, ast.ClassDef)
+                 for part in node.body if isinstance(part, ast.FunctionDef)]
+        marked = {part.name for _, part in nodes if part.decorator_list}
+        self.assertFalse(marked & {part.name for _, part in nodes if not part.decorator_list})
+        stored = {node.attr for _, tree in trees() for node in ast.walk(tree)
+                  if isinstance(node, ast.Attribute) and isinstance(node.ctx, ast.Store)}
+        self.assertFalse(marked & stored)
+
+    def test_what_is_imported_is_used(self):
+        for path, tree in trees():
+            imported = {one.name for node in ast.walk(tree) if isinstance(node, ast.ImportFrom) for one in node.names}
+            used = {node.id for node in ast.walk(tree) if isinstance(node, ast.Name)}
+            self.assertLessEqual(imported, used, path)
+
     def test_kinds_of_expressions(self):
         barred = (ast.GeneratorExp, ast.Global, ast.AsyncFunctionDef, ast.Await, ast.Div, ast.Import, ast.AnnAssign)
         for path, tree in trees():
