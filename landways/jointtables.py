@@ -76,9 +76,7 @@ class JointTable:
 
 
 def _remembered(cache, custom, view, plan):
-    """The view behind a step of this plan, worked out once for each view and plan."""
-    if plan is None:
-        return view
+    """The view behind a step of this plan, or of none, worked out once for each view and plan."""
     key = (view.cell, view.number, plan)
     if key not in cache:
         cache[key] = view_behind(custom, view, plan)

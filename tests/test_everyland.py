@@ -173,6 +173,14 @@ class Asking(unittest.TestCase):
                 self.assertIs(every.everywhere, None not in three)
                 self.assertEqual((every.custom, every.counted), (custom, counted))
 
+    def test_numbers_that_no_function_has_told(self):
+        for k in range(8):
+            three = [2 if k >> place & 1 else None for place in range(3)]
+            every = EveryLand(custom_at(0), Counted(), *three)
+            self.assertIs(every.nowhere, k == 0)
+            self.assertIs(every.everywhere, k == 7)
+            self.assertEqual([every.fewest(probe_land(sort), 0) for sort in SORTS], three)
+
     def test_equal(self):
         one, other = custom_at(7), custom_at(8)
         self.assertTrue(on_all_lands(one) == on_all_lands(one, Counted()))

@@ -4,7 +4,7 @@ import inspect
 import random
 import unittest
 
-from helpers import (CHAIN, FORK, NO_NUMBERS, PAIR, RING, ROW, caught, some_deeds, some_histories, subsets, tuples_only)
+from helpers import (CHAIN, FORK, NO_NUMBERS, PAIR, RING, ROW, caught, look, some_deeds, some_histories, subsets, tuples_only)
 from landways.counted import Counted, counteds
 from landways.customs import Custom, custom_at
 from landways.deeds import deed_fault, is_counted
@@ -152,6 +152,12 @@ class Steps(unittest.TestCase):
     def test_four_cells(self):
         for custom, joint in settled_joints(163, FORK, 2, 0, 20):
             self.check(custom, joint)
+
+    def test_gifts_of_which_one_of_two_in_one_hand_sees_less(self):
+        custom = Custom("stay", "die", "all", "all", "never")
+        # The cells 2 and 3 lie in one hand; what both have already, or only one of them lacks, comes once.
+        for one, other in [("2: a.o", "3: a.o"), ("2: n.o", "3: ano"), ("2: aao", "3: .ao"), ("2: .no", "3: aao")]:
+            self.check(custom, JointView(look(FORK, one), look(FORK, other)))
 
     def test_from_the_start(self):
         for number in range(0, 192, 24):

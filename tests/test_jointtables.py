@@ -245,6 +245,9 @@ class Judged(unittest.TestCase):
         for wrong in (None, -1, 0, last, len(self.rows), True, "0"):
             self.assertEqual(self.fault(self.with_row(last, joint, distance, wrong, pair)), "before")
         self.assertEqual(self.fault(self.with_row(last, joint, distance + 1, before, pair)), "before")
+        joint, distance, _, pair = self.rows[1]
+        for wrong in (None, 1, 2, last):
+            self.assertEqual(self.fault(self.with_row(1, joint, distance, wrong, pair)), "before")
 
     def test_step(self):
         joint, distance, before, pair = self.rows[1]
@@ -253,8 +256,15 @@ class Judged(unittest.TestCase):
                       (Grant([0]), None), (Come([0]), Come([0])), (Give([0]), None), (Go([2], [0]), Leave([2])), "step"):
             self.assertEqual(self.fault(self.with_row(1, joint, distance, before, wrong)), "step", wrong)
         self.assertEqual(self.fault(self.with_row(1, joint.turned(), distance, before, pair)), "step")
-        granted = self.fault(self.rows, counted=Counted(grants=False))
-        self.assertEqual(granted, "step")
+        self.assertEqual(self.fault(self.rows, counted=Counted(grants=False)), "step")
+
+    def test_steps_that_lead_elsewhere(self):
+        joint, distance, before, _ = self.rows[-1]
+        ahead = self.rows[before][0]
+        others = [pair for pair in joint_steps(EXAMPLE, ahead) if joint_seen(EXAMPLE, ahead, pair) != joint]
+        self.assertTrue(others)
+        for pair in others:
+            self.assertEqual(self.fault(self.rows[:-1] + ((joint, distance, before, pair),)), "step")
 
     def test_order(self):
         def with_new_indexes(order):
@@ -265,6 +275,7 @@ class Judged(unittest.TestCase):
         self.assertIsNone(self.fault(with_new_indexes(range(many))))
         for k in range(1, many - 1, 5):
             self.assertEqual(self.fault(with_new_indexes([*range(k), k + 1, k, *range(k + 2, many)])), "order")
+        self.assertEqual(self.fault(with_new_indexes([0, *reversed(range(1, many))])), "order")
 
     def test_closed(self):
         self.assertEqual(self.fault(self.rows[:-1]), "closed")

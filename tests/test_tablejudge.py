@@ -96,6 +96,9 @@ class Tables(unittest.TestCase):
         for wrong in (None, 0, last, last - 1):
             self.assertEqual(self.fault(self.with_row(last, view, distance, wrong, step)), "before")
         self.assertEqual(self.fault(self.with_row(last, view, distance + 1, before, step)), "before")
+        view, distance, _, step = self.rows[1]
+        for wrong in (None, 1, 2, last):
+            self.assertEqual(self.fault(self.with_row(1, view, distance, wrong, step)), "before")
 
     def test_step(self):
         view, distance, before, step = self.rows[1]
@@ -190,6 +193,10 @@ class Verdicts(unittest.TestCase):
         self.assertEqual(verdict_fault(past, 2, Counted(False), never), "asked")
         self.assertEqual(verdict_fault(past.then(("goes", [2], 1, [])), 2, None, never), "asked")
         self.assertEqual(verdict_fault(History(ROW, BARE), 2, None, never), "asked")
+        one = view_table(ROW, KIND, 1)
+        self.assertIsNone(verdict_fault(past, 1, None, Never(one)))
+        self.assertEqual(verdict_fault(past, 1, None, Never(Table(past, True, Counted(), one.rows))), "asked")
+        self.assertEqual(table_fault(Table(past, True, Counted(), one.rows)), "rows")
         other = Table(past, 2, None, never.table.rows)
         self.assertEqual(verdict_fault(past, 2, None, Never(other)), "asked")
 
@@ -213,6 +220,10 @@ class Verdicts(unittest.TestCase):
         self.assertEqual(verdict_fault(PAST, 1, None, told), "asked")
         for cell in (True, None, 5, "2"):
             self.assertEqual(verdict_fault(PAST, 2, None, Shut(cell, history, told.steps)), "asked")
+        past = History(ROW, BARE)
+        one = past.then(("goes", [1], 1, []))
+        self.assertIsNone(verdict_fault(past, 1, None, Shut(1, one, 1)))
+        self.assertEqual(verdict_fault(past, 1, None, Shut(True, one, 1)), "asked")
         self.assertEqual(verdict_fault(History(ROW, BARE, PAST.deeds), 2, None, told), "asked")
         self.assertEqual(verdict_fault(History(VEE, EXAMPLE, PAST.deeds), 2, None, told), "asked")
         self.assertEqual(verdict_fault(PAST.then(("goes", [1], 4, [])), 2, None, told), "asked")
