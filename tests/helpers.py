@@ -89,6 +89,13 @@ def tuples_only(thing):
     return not isinstance(thing, tuple) or all(tuples_only(part) for part in thing)
 
 
+def in_order(rows, order):
+    """The rows of a table in this order of their old indexes, each naming the same row ahead of it as before."""
+    places = {old: new for new, old in enumerate(order)}
+    return tuple((row[0], row[1], None if row[2] is None else places[row[2]], row[3])
+                 for row in (rows[old] for old in order))
+
+
 def some_states(seed, many, lands=LANDS):
     """Yield states that no history need bring about."""
     source = random.Random(seed)

@@ -3,7 +3,7 @@
 import random
 import unittest
 
-from helpers import FORK, NO_NUMBERS, PAIR, RING, ROW, caught, look, some_deeds, tuples_only
+from helpers import FORK, NO_NUMBERS, PAIR, RING, ROW, caught, in_order, look, some_deeds, tuples_only
 from landways.counted import Counted, counteds
 from landways.customs import Custom, custom_at, customs
 from landways.deeds import is_counted
@@ -267,15 +267,11 @@ class Judged(unittest.TestCase):
             self.assertEqual(self.fault(self.rows[:-1] + ((joint, distance, before, pair),)), "step")
 
     def test_order(self):
-        def with_new_indexes(order):
-            places = {old: new for new, old in enumerate(order)}
-            return tuple((row[0], row[1], None if row[2] is None else places[row[2]], row[3])
-                         for row in (self.rows[old] for old in order))
         many = len(self.rows)
-        self.assertIsNone(self.fault(with_new_indexes(range(many))))
+        self.assertIsNone(self.fault(in_order(self.rows, range(many))))
         for k in range(1, many - 1, 5):
-            self.assertEqual(self.fault(with_new_indexes([*range(k), k + 1, k, *range(k + 2, many)])), "order")
-        self.assertEqual(self.fault(with_new_indexes([0, *reversed(range(1, many))])), "order")
+            self.assertEqual(self.fault(in_order(self.rows, [*range(k), k + 1, k, *range(k + 2, many)])), "order")
+        self.assertEqual(self.fault(in_order(self.rows, [0, *reversed(range(1, many))])), "order")
 
     def test_closed(self):
         self.assertEqual(self.fault(self.rows[:-1]), "closed")

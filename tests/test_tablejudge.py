@@ -3,7 +3,7 @@
 import random
 import unittest
 
-from helpers import PAIR, RING, ROW, look, some_deeds
+from helpers import PAIR, RING, ROW, in_order, look, some_deeds
 from landways.counted import Counted, counteds
 from landways.customs import Custom, custom_at
 from landways.histories import History
@@ -118,16 +118,12 @@ class Tables(unittest.TestCase):
         self.assertEqual(table_fault(Table(PAST, 2, Counted(grants=False), table.rows)), "step")
 
     def test_order(self):
-        def with_new_indexes(order):
-            places = {old: new for new, old in enumerate(order)}
-            return tuple((row[0], row[1], None if row[2] is None else places[row[2]], row[3])
-                         for row in (self.rows[old] for old in order))
         many = len(self.rows)
-        self.assertIsNone(self.fault(with_new_indexes(range(many))))
+        self.assertIsNone(self.fault(in_order(self.rows, range(many))))
         for k in range(1, many - 1):
             order = [*range(k), k + 1, k, *range(k + 2, many)]
-            self.assertEqual(self.fault(with_new_indexes(order)), "order")
-        self.assertEqual(self.fault(with_new_indexes([0, *reversed(range(1, many))])), "order")
+            self.assertEqual(self.fault(in_order(self.rows, order)), "order")
+        self.assertEqual(self.fault(in_order(self.rows, [0, *reversed(range(1, many))])), "order")
 
     def test_closed(self):
         self.assertEqual(self.fault(self.rows[:-1]), "closed")
