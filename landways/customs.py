@@ -91,8 +91,8 @@ def differences(one, other):
     return tuple([clause for clause in CLAUSES if one.word(clause) != other.word(clause)])
 
 
-def check_sides(custom, word):
-    """Refuse a custom of which sold, or else kept, is this word, with which an answer hangs on the land."""
+def check_sides(custom, *barred):
+    """Refuse a custom of which sold, or else kept, is one of these words, with which an answer hangs on the land."""
     for clause in ("sold", "kept"):
-        if custom.word(clause) == word:
+        if custom.word(clause) in barred:
             raise NeedsLand(clause)

@@ -15,7 +15,7 @@ def _has_form(thing):
     return len(thing) == _LENGTHS.get(thing[0])
 
 
-def _are_told(land, thing):
+def are_told(land, thing):
     """Whether the thing is a sequence of couples, none of them twice."""
     if not is_sequence(thing) or not all([is_couple(land, couple) for couple in thing]):
         return False
@@ -32,7 +32,7 @@ def shape_fault(land, deed):
         return None if is_lot(land, deed[2], 1) else "cells"
     if not is_whole(deed[2], 0, MOST_HAND):
         return "hand"
-    return None if _are_told(land, deed[3]) else "told"
+    return None if are_told(land, deed[3]) else "told"
 
 
 def _hands_of(state, cells):

@@ -4,7 +4,7 @@ from landways.counted import Counted, meant
 from landways.errors import NoJointStep
 from landways.gathering import fresh_hand, gift_deeds, goes_told
 from landways.joint import JointView, check_two, joint_view
-from landways.listing import mortal_rights, plain_step
+from landways.listing import free_cells, mortal_rights, plain_step
 from landways.lots import all_lots
 from landways.playing import played
 from landways.seeing import behind_plan, plan_of, step_of
@@ -54,9 +54,7 @@ def _moving_plans(custom, joint, counted):
 
 def _gift_lots(view, word):
     """The cells over which a grant, or a giving up, changes a right of the view."""
-    if word == "gives":
-        return view.rights
-    return tuple([b for b in view.outside if view.standings[b] != "awake"])
+    return view.rights if word == "gives" else free_cells(view)
 
 
 def _single_gifts(joint, view, kind, word):

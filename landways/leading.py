@@ -15,19 +15,13 @@ def _check_cell(land, cell):
         raise RoadCell(cell)
 
 
-def _led_lot(land, cell, lot):
-    """The cells for which the cells of two cells stand."""
-    return [b for b in range(land.cells) if (0 if b == cell else 1) in lot]
-
-
-def _led(land, cell, deed):
-    """A deed of two cells, of right shape, led over to the land."""
-    cells = _led_lot(land, cell, deed[1])
+def led_by_lot(land, lot, deed):
+    """A deed of two cells, of right shape, led over: the lot stands for cell 0, all other cells for cell 1."""
+    sides = (list(lot), [b for b in range(land.cells) if b not in lot])
+    cells = [b for side in deed[1] for b in sides[side]]
     if deed[0] != "goes":
-        return shaped((deed[0], cells, _led_lot(land, cell, deed[2])))
-    told = []
-    for one, _ in deed[3]:
-        told.extend([(cell, b) if one == 0 else (b, cell) for b in land.others(cell)])
+        return shaped((deed[0], cells, [b for side in deed[2] for b in sides[side]]))
+    told = [(a, b) for one, other in deed[3] for a in sides[one] for b in sides[other]]
     return shaped((deed[0], cells, deed[2], told))
 
 
@@ -37,7 +31,7 @@ def lead_deed(land, cell, deed):
     word = shape_fault(probe_land("bound"), deed)
     if word is not None:
         raise BadDeed(word)
-    return _led(land, cell, deed)
+    return led_by_lot(land, (cell,), deed)
 
 
 def lead_over(history, land, cell):
@@ -46,4 +40,4 @@ def lead_over(history, land, cell):
         raise NotTwoCells()
     check_sides(history.custom, "beside")
     _check_cell(land, cell)
-    return History(land, history.custom, [_led(land, cell, deed) for deed in history.deeds])
+    return History(land, history.custom, [led_by_lot(land, (cell,), deed) for deed in history.deeds])

@@ -39,11 +39,11 @@ def plain_step(custom, view, step):
     return step_by_plan(step.kind, step.cells, step.others)
 
 
-def _moving_plans(custom, view, counted):
-    """The plans of the plain steps that move cells, in order."""
+def _moving_plans(view, mortal, counted):
+    """The plans of the steps that move cells, with these mortal rights, in order."""
     mates = [b for b in view.own if b != view.cell]
     leaving = all_lots(mates)
-    untold = all_lots(mortal_rights(custom, view)) if counted.untold else ((),)
+    untold = all_lots(mortal) if counted.untold else ((),)
     outside = all_lots(view.outside)
     plans = [("leave", cells, others) for cells in leaving for others in untold if cells or others]
     plans = plans + [("come", cells, ()) for cells in outside if cells]
@@ -52,15 +52,24 @@ def _moving_plans(custom, view, counted):
     return plans + [("go", cells, others) for cells in going for others in outside]
 
 
-def step_plans(custom, view, counted):
-    """The plans (kind, cells, others) of all plain steps of the view that are counted, in order."""
-    plans = _moving_plans(custom, view, counted)
+def plans_over(view, mortal, free, rights, counted):
+    """The plans of all counted steps, in order, where these rights are mortal, and these can be granted or given up."""
+    plans = _moving_plans(view, mortal, counted)
     if counted.grants:
-        free = [b for b in view.outside if view.standings[b] != "awake"]
         plans = plans + [("grant", cells, ()) for cells in all_lots(free) if cells]
     if counted.giving_up:
-        plans = plans + [("give", cells, ()) for cells in all_lots(view.rights) if cells]
+        plans = plans + [("give", cells, ()) for cells in all_lots(rights) if cells]
     return plans
+
+
+def free_cells(view):
+    """The cells outside over which a grant gives the cell more than it has, ascending."""
+    return tuple([b for b in view.outside if view.standings[b] != "awake"])
+
+
+def step_plans(custom, view, counted):
+    """The plans (kind, cells, others) of all plain steps of the view that are counted, in order."""
+    return plans_over(view, mortal_rights(custom, view), free_cells(view), view.rights, counted)
 
 
 def plain_steps(custom, view, counted=None):

@@ -6,7 +6,7 @@ from landways.lands import is_cell, is_whole
 from landways.listing import plain_steps
 from landways.seeing import seen
 from landways.steps import Step
-from landways.tables import Table, table_behind
+from landways.tables import Table, table_to_shut
 from landways.verdicts import Never, Nobody, Shut, first_shut_row
 from landways.views import View, view_of
 from landways.walks import ends_of_steps
@@ -142,7 +142,7 @@ def _shut_fault(history, cell, counted, told):
     if told.history.state.is_open(cell):
         return "open"
     # The cell is shut off at the end of a counted history, so that its table has such a row.
-    danger = first_shut_row(table_behind(history, cell, counted))[1]
+    danger = first_shut_row(table_to_shut(history, cell, counted))[1]
     if not _is_distance(told.steps) or told.steps != danger:
         return "steps"
     return None if _number_of_changes(history, told.history, cell) == danger else "steps"
@@ -169,7 +169,7 @@ def _are_tables(history, counted, tables):
 def _has_fewest(history, counted, told):
     """Whether no other cell can be shut off in fewer steps than told, and no lesser one in as many."""
     for cell in range(history.land.cells):
-        row = first_shut_row(table_behind(history, cell, counted))
+        row = first_shut_row(table_to_shut(history, cell, counted))
         if row is not None and (row[1], cell) < (told.steps, told.cell):
             return False
     return True

@@ -93,19 +93,34 @@ def _new_rows(custom, counted, rows, first, known):
     return [found[number] for number in sorted(found)]
 
 
-def table_behind(history, cell, counted=None):
-    """The table of all views that can come behind the history."""
+def _has_shut(rows):
+    """Whether the cell is shut off in a view of the rows."""
+    return len([row for row in rows if not row[0].is_open()]) > 0
+
+
+def _grown_table(history, cell, counted, to_shut):
+    """The table of the views that can come: of all, or, `to_shut`, as far as to the nearest in which it is shut off."""
     check_cells(history.land, cell)
     truth = meant(counted)
     start = view_of(history.state, cell)
     rows = [(start, 0, None, None)]
     known = {start.number: True}
     done = 0
-    while done < len(rows):
+    while done < len(rows) and not (to_shut and _has_shut(rows[done:])):
         further = _new_rows(history.custom, truth, rows, done, known)
         done = len(rows)
         rows = rows + further
     return Table(history, cell, truth, tuple(rows))
+
+
+def table_behind(history, cell, counted=None):
+    """The table of all views that can come behind the history."""
+    return _grown_table(history, cell, counted, False)
+
+
+def table_to_shut(history, cell, counted=None):
+    """The table of all views that can come, but no further than to the nearest in which the cell is shut off."""
+    return _grown_table(history, cell, counted, True)
 
 
 def view_table(land, custom, cell, counted=None):

@@ -1,7 +1,7 @@
 """Whether a cell can ever be shut off, decided for all histories [5.10], [5.11]."""
 
 from landways.histories import History
-from landways.tables import table_behind
+from landways.tables import table_to_shut
 
 
 class Never:
@@ -37,7 +37,8 @@ def first_shut_row(table):
 
 def verdict_behind(history, cell, counted=None):
     """Whether the cell can be shut off by counted deeds behind the history."""
-    table = table_behind(history, cell, counted)
+    # Without such a view the table is that of all views.
+    table = table_to_shut(history, cell, counted)
     row = first_shut_row(table)
     if row is None:
         return Never(table)

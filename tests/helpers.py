@@ -3,8 +3,9 @@
 import random
 from itertools import combinations
 
+from landways.counted import Counted
 from landways.customs import custom_at
-from landways.deeds import deed_fault
+from landways.deeds import deed_fault, is_counted
 from landways.errors import LandError
 from landways.histories import History
 from landways.lands import Land
@@ -106,3 +107,21 @@ def some_states(seed, many, lands=LANDS):
         for a, b in land.couples:
             table[a][b] = source.choice(["none", "asleep"] if hands[a] == hands[b] else ["none", "awake", "needed"])
         yield State(land, hands, table)
+
+
+# Things that are no sequence of anything, for places where a lot or a row of such is asked.
+NO_SEQUENCES = (None, True, 0, 7, "", "01", {}, {0: 1}, set(), object())
+VEE = Land(3, [(0, 1), (0, 2)], [1, 2])
+
+
+def some_counted(source):
+    """A Counted, drawn from the source."""
+    return Counted(*source.choices([False, True], k=3))
+
+
+def is_played(history, land, custom, counted, past=()):
+    """Whether a history is one of the land under the custom that begins with the past, all else counted."""
+    assert (history.land, history.custom) == (land, custom)
+    assert history == History(land, custom, history.deeds)
+    assert history.deeds[:len(past)] == tuple(past)
+    return all(is_counted(counted, history.state_at(k), history.deeds[k]) for k in range(len(past), len(history)))
