@@ -5,15 +5,23 @@ import inspect
 import unittest
 
 from helpers import ROW
+from landways.bench import Bench
+from landways.changes import Change, Pool
 from landways.customs import custom_at
+from landways.everycustom import compare_everywhere
 from landways.everyland import on_all_lands
 from landways.histories import History
 from landways.joint import start_joint
 from landways.jointtables import joint_table
+from landways.smudges import Smudged
 from landways.states import start_state
 from landways.steps import Give, Leave
 from landways.tables import view_table
+from landways.twinruns import TwinRun
+from landways.twintables import twin_table
+from landways.twinviews import twin_start
 from landways.views import start_view
+from landways.wishes import EveryLandWish, LandWish, Wish
 
 FUNCTIONS = {
     "lands": "is_whole(thing, low, high); are_cells(many, thing, least); is_cell(land, thing); "
@@ -74,8 +82,46 @@ FUNCTIONS = {
     "burdens": "meets(joint, question); meet(land, custom, first, second, question, counted=None); "
                "meet_behind(history, first, second, question, counted=None); "
                "double_burden(land, custom, cell, counted=None); doubly_burdened(land, custom, counted=None)",
+    "together": "shut_together(land, custom, cells, counted=None); burden_history(land, custom, cell, counted=None); "
+                "all_crossed(land, custom, counted=None); burden_on_all_lands(custom, counted=None); "
+                "crossed_on_all_lands(custom, counted=None); crossed_states(custom, counted=None)",
+    "twinviews": "twin_start(land, cell); twin_seen(one, other, twin, step); twin_steps(one, other, twin, counted)",
+    "twinruns": "",
+    "twintables": "twin_table(land, one, other, cell, counted=None); twin_leaving(table)",
+    "comparing": "compare_customs(land, one, other, counted=None, *, measure='standing'); "
+                 "are_alike(land, one, other, counted=None, *, measure='standing'); "
+                 "alike_fault(land, one, other, counted, measure, told)",
+    "kinder": "compare_kindness(land, one, other, counted=None); is_kinder(land, one, other, counted=None)",
+    "idle": "alike_words(land, custom, clause, counted=None, *, measure='standing'); "
+            "idle_clauses(land, custom, counted=None, *, measure='standing')",
+    "everycustom": "trial_lands(measure); compare_everywhere(one, other, counted=None, *, measure='standing'); "
+                   "are_alike_everywhere(one, other, counted=None, *, measure='standing'); "
+                   "alike_customs(custom, counted=None, *, measure='standing'); "
+                   "custom_classes(counted=None, *, measure='standing'); "
+                   "idle_everywhere(custom, counted=None, *, measure='standing'); "
+                   "kinder_everywhere(one, other, counted=None)",
+    "smudges": "lawful_fillings(smudged); number_of_fillings(smudged); filled_history(smudged, findings)",
+    "tidings": "told_standings(smudged, a, b, many=None); sure_standing(smudged, a, b, many=None); "
+               "openness(smudged, cell, many=None); parting_findings(smudged, a, b, many=None); "
+               "unsure_couples(smudged, many=None); unsure_cells(smudged, many=None)",
+    "findings": "with_finding(smudged, place, finding); is_idle(smudged, place); telling_findings(smudged, place); "
+                "settled_by(smudged, place); least_findings(smudged); prospect(smudged, cell, counted=None); "
+                "sure_safe_cells(smudged, cell, counted=None)",
+    "changes": "change_text(change); every_change(custom); is_lesser(one, other)",
+    "wishes": "judge_wish(wish, custom)",
+    "mends": "good_choices(custom, pool, wish); least_mends(custom, pool, wish); spoiling_changes(custom, pool, wish); "
+             "nearest_customs(custom, wish); saving_choices(history, pool, cell)",
+    "mendjudge": "judgment_fault(wish, custom, told); mends_fault(custom, pool, wish, mends)",
+    "keeping": "grantable_cells(state, cell); with_grants(history, cell, lot); "
+               "keeping_grants(history, cell, counted=None); spoiling_grants(history, cell, counted=None); "
+               "least_keeping(history, cell, counted=None)",
+    "keepjudge": "keeping_fault(history, cell, counted, keeping)",
+    "bench": "",
 }
 CONSTANTS = {
+    "lands": {"MOST_CELLS": 5, "MOST_HAND": 10 ** 30}, "histories": {"MOST_DEEDS": 10000},
+    "customs": {"CLAUSES": ("untold", "joined", "sold", "kept", "ends")},
+    "twinviews": {"MEASURES": ("standing", "passing", "open")}, "smudges": {"MOST_LOST": 4, "MOST_FILLINGS": 256},
     "tables": {"WAYS": ("own", "asleep", "none", "awake", "needed")},
     "twocells": {"PAIRS": ("own", "asleep", "none", "awake", "needed"),
                  "EVENTS": ("sold", "kept", "joined", "untold", "grant", "gives")},
@@ -115,14 +161,41 @@ CLASSES = {
                                    "__contains__(self, joint); __eq__(self, other)",
     ("burdens", "NeverMet"): "__init__(self, question, told)",
     ("burdens", "Met"): "__init__(self, question, history, steps)",
+    ("twinviews", "TwinView"): "__init__(self, one, other); differs(self, measure); turned(self); __eq__(self, other)",
+    ("twinruns", "TwinRun"): "__init__(self, land, one, other, deeds=()); twins(self, cell); twin(self, cell); "
+                             "differing(self, measure); differs_at(self, measure); until(self, many); "
+                             "then(self, *deeds); turned(self); is_counted(self, counted); __len__(self); "
+                             "__eq__(self, other)",
+    ("twintables", "TwinTable"): "__init__(self, land, one, other, cell, counted, rows); distance(self, twin); "
+                                 "run_of(self, twin); firsts(self); seconds(self); __len__(self); __iter__(self); "
+                                 "__contains__(self, twin)",
+    ("comparing", "Alike"): "__init__(self, tables)", ("comparing", "Unlike"): "__init__(self, run, cell)",
+    ("kinder", "Kinder"): "__init__(self, tables)", ("kinder", "Unkind"): "__init__(self, run, cell, over)",
+    ("everycustom", "OnAllLands"): "__init__(self, one, other, counted, measure)",
+    ("smudges", "Smudged"): "__init__(self, land, custom, deeds, lost); __eq__(self, other)",
+    ("changes", "Change"): "__init__(self, clause, word); made(self, custom); __eq__(self, other)",
+    ("changes", "Pool"): "__init__(self, changes); lawful_choices(self); custom_by(self, custom, choice); __len__(self); "
+                         "__iter__(self)",
+    ("wishes", "Wish"): "__init__(self, counted=None); things(self); __eq__(self, other)",
+    ("wishes", "LandWish"): "__init__(self, land, cells, counted=None, *, bars=()); things(self); __eq__(self, other)",
+    ("wishes", "EveryLandWish"): "__init__(self, sorts, counted=None); things(self); __eq__(self, other)",
+    ("wishes", "Kept"): "__init__(self, wish, custom, papers)",
+    ("wishes", "Broken"): "__init__(self, wish, custom, thing, paper)",
+    ("wishes", "Needed"): "__init__(self, other, history)",
+    ("mends", "Mends"): "__init__(self, good, bad)", ("keeping", "Keeping"): "__init__(self, good, bad)",
+    ("bench", "Bench"): "__init__(self, land, custom, deeds=()); make(self, *deeds); change(self, *changes); undo(self); "
+                        "back_to(self, many); tried(self, deeds, question); __len__(self)",
 }
 PROPERTIES = {("lands", "Land"): ["couples"], ("states", "State"): ["shut", "lots"], ("histories", "History"): ["state"],
               ("tables", "Table"): ["views"], ("everyland", "EveryLand"): ["nowhere", "everywhere"],
-              ("joint", "JointView"): ["alike", "beyond", "both_shut", "one_shut", "crossed", "needs", "doubled"]}
+              ("joint", "JointView"): ["alike", "beyond", "both_shut", "one_shut", "crossed", "needs", "doubled"],
+              ("twinviews", "TwinView"): ["surplus"]}
 GENERATORS = [("likeness", "likenesses"), ("landforms", "all_lands"), ("customs", "customs"), ("counted", "counteds"),
               ("playing", "stages"), ("reasons", "ledger"), ("reasons", "shuttings"), ("views", "all_views"),
               ("seeing", "step_changes"), ("listing", "plain_steps"), ("walks", "view_walk"),
-              ("joint", "all_joint_views"), ("jointsteps", "joint_steps")]
+              ("joint", "all_joint_views"), ("jointsteps", "joint_steps"), ("twinviews", "twin_steps"),
+              ("everycustom", "custom_classes"), ("smudges", "lawful_fillings"), ("changes", "every_change")]
+METHODS = [("histories", "History", "states"), ("twinruns", "TwinRun", "twins"), ("changes", "Pool", "lawful_choices")]
 
 
 def module(name):
@@ -164,7 +237,21 @@ class Interface(unittest.TestCase):
     def test_generators(self):
         for name, title in GENERATORS:
             self.assertTrue(inspect.isgeneratorfunction(getattr(module(name), title)), title)
-        self.assertTrue(inspect.isgeneratorfunction(History.states))
+        for name, title, method in METHODS:
+            self.assertTrue(inspect.isgeneratorfunction(getattr(getattr(module(name), title), method)), method)
+
+    def test_every_module_has_no_more_than_a_file(self):
+        for name in [*FUNCTIONS, "views", "steps", "errors"]:
+            self.assertEqual(module(name).__name__, "landways." + name)
+
+    def test_wishes_are_under_wish(self):
+        for title in ("LandWish", "EveryLandWish"):
+            self.assertTrue(issubclass(getattr(module("wishes"), title), Wish))
+
+    def test_changes_are_read_by_the_class(self):
+        read = vars(Change)["read"]
+        self.assertIsInstance(read, classmethod)
+        self.assertEqual(str(inspect.signature(Change.read)), "(text)")
 
     def test_attributes_are_set_when_an_object_is_made(self):
         for thing, names in [(ROW, "cells neighbours roads"), (start_state(ROW), "land hands standings"),
@@ -175,6 +262,14 @@ class Interface(unittest.TestCase):
                              (view_table(ROW, custom_at(0), 2), "past cell counted rows land custom"),
                              (on_all_lands(custom_at(0)), "custom counted far loose bound"),
                              (start_joint(ROW, 1, 2), "first second land cells"),
-                             (joint_table(ROW, custom_at(0), 1, 2), "past cells counted rows joints land custom")]:
+                             (joint_table(ROW, custom_at(0), 1, 2), "past cells counted rows joints land custom"),
+                             (twin_start(ROW, 1), "one other land cell own numbers"),
+                             (TwinRun(ROW, custom_at(0), custom_at(1)), "land one other deeds first second"),
+                             (twin_table(ROW, custom_at(0), custom_at(1), 2), "land one other cell counted rows"),
+                             (compare_everywhere(custom_at(0), custom_at(0)), "one other counted measure"),
+                             (Smudged(ROW, custom_at(0), [], []), "land custom deeds lost many"),
+                             (Change("sold", "all"), "clause word"), (Pool([Change("sold", "all")]), "changes"),
+                             (Wish(), "counted"), (LandWish(ROW, [1]), "land cells counted bars"),
+                             (EveryLandWish(["far"]), "sorts counted"), (Bench(ROW, custom_at(0)), "history")]:
             for name in names.split():
                 self.assertIn(name, vars(thing))
