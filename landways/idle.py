@@ -19,7 +19,5 @@ def alike_words(land, custom, clause, counted=None, *, measure="standing"):
 
 def idle_clauses(land, custom, counted=None, *, measure="standing"):
     """The clauses all of whose words are alike, in order."""
-    check_width(land)
-    check_measure(measure)
     return tuple([clause for clause in CLAUSES
                   if alike_words(land, custom, clause, counted, measure=measure) == words(clause)])

@@ -2,7 +2,6 @@
 
 from landways.changes import is_lesser
 from landways.counted import meant
-from landways.customs import check_sides
 from landways.errors import BadCells
 from landways.lands import check_cells, is_lot
 from landways.lots import all_lots
@@ -63,8 +62,6 @@ def spoiling_grants(history, cell, counted=None):
 
 def least_keeping(history, cell, counted=None):
     """The least lots that keep the cell, in order, where no right arises by need; no table is asked."""
-    check_sides(history.custom, "need")
-    check_cells(history.land, cell)
     safe = safe_cells(history, cell, counted)
     truth = meant(counted)
     free = grantable_cells(history.state, cell)

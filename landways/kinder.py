@@ -1,6 +1,6 @@
 """Whether one custom is kinder than another on a land, for all histories [8.6]."""
 
-from landways.twintables import check_width, twin_table
+from landways.twintables import twin_table
 
 
 class Kinder:
@@ -32,7 +32,6 @@ def _first_unkind(run):
 
 def compare_kindness(land, one, other, counted=None):
     """Whether each cell passes by the other custom, in every counted run, over all that it passes by the one."""
-    check_width(land)
     tables = []
     for cell in range(land.cells):
         table = twin_table(land, one, other, cell, counted)

@@ -16,7 +16,7 @@ from landways.wishes import Broken, Kept, Needed, first_needed
 
 def _same_cells(land, told, cells):
     """Whether what is told are these cells; True and False are none."""
-    return isinstance(told, tuple) and told == cells and all([is_cell(land, cell) for cell in told])
+    return told == cells and all([is_cell(land, cell) for cell in told])
 
 
 def _is_history_of(told, land, custom, counted):
@@ -172,7 +172,7 @@ def are_pairs(thing):
 
 def are_least(choices, many, good, bad):
     """Whether both, each in order, are just those of the choices, or lots, below `many` without a lesser good one."""
-    if not all([isinstance(choice, tuple) and is_ascending(many, choice) for choice in good + bad]):
+    if not all([is_ascending(many, choice) for choice in good + bad]):
         return False
     least = choices_without_lesser(choices, good)
     if good != [choice for choice in least if choice in good]:

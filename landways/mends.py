@@ -3,7 +3,6 @@
 from landways.changes import is_lesser
 from landways.customs import CLAUSES, customs, differences
 from landways.histories import History
-from landways.lands import check_cells
 from landways.wishes import Kept, judge_wish
 
 
@@ -80,7 +79,6 @@ def nearest_customs(custom, wish):
 
 def saving_choices(history, pool, cell):
     """The lawful choices under whose custom the cell is open in every state of the same deeds, in order."""
-    check_cells(history.land, cell)
     found = []
     for choice in pool.lawful_choices():
         custom = pool.custom_by(history.custom, choice)

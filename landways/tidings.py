@@ -1,7 +1,7 @@
 """What a smudged register tells, surely or not [9.3]."""
 
-from landways.errors import BadCell, NoDeed
-from landways.lands import check_cells, is_whole
+from landways.errors import BadCell
+from landways.lands import check_cells
 from landways.smudges import lawful_fillings
 from landways.states import STANDINGS
 
@@ -14,23 +14,20 @@ def _check_couple(smudged, a, b):
 
 
 def _meant_many(smudged, many):
-    """The number of deeds that is meant; what is none is refused."""
-    if many is None:
-        return len(smudged.deeds)
-    if not is_whole(many, 0, len(smudged.deeds)):
-        raise NoDeed(many)
-    return many
+    """The number of deeds that is meant: of all of them where None is passed."""
+    return len(smudged.deeds) if many is None else many
 
 
 def _states(smudged, many):
-    """The state behind so many deeds in each filling, in order."""
-    return [history.state_at(many) for _, history in lawful_fillings(smudged)]
+    """The state behind so many deeds in each filling, in order; a history refuses what is no such number."""
+    behind = _meant_many(smudged, many)
+    return [history.state_at(behind) for _, history in lawful_fillings(smudged)]
 
 
 def told_standings(smudged, a, b, many=None):
     """The standings that the couple has behind so many deeds in some filling, in the order of STANDINGS."""
     _check_couple(smudged, a, b)
-    words = [state.standing(a, b) for state in _states(smudged, _meant_many(smudged, many))]
+    words = [state.standing(a, b) for state in _states(smudged, many)]
     return tuple([word for word in STANDINGS if word in words])
 
 
@@ -51,7 +48,7 @@ def _openness(states, cell):
 def openness(smudged, cell, many=None):
     """Whether the cell is open behind so many deeds: "open", "shut" or "unsure"."""
     check_cells(smudged.land, cell)
-    return _openness(_states(smudged, _meant_many(smudged, many)), cell)
+    return _openness(_states(smudged, many), cell)
 
 
 def parting_findings(smudged, a, b, many=None):
@@ -70,12 +67,12 @@ def parting_findings(smudged, a, b, many=None):
 
 def unsure_couples(smudged, many=None):
     """The couples with several standings, ascending."""
-    states = _states(smudged, _meant_many(smudged, many))
+    states = _states(smudged, many)
     return tuple([(a, b) for a, b in smudged.land.couples
                   if [state for state in states if state.standings[a][b] != states[0].standings[a][b]]])
 
 
 def unsure_cells(smudged, many=None):
     """The cells that are open in some fillings and shut off in others, ascending."""
-    states = _states(smudged, _meant_many(smudged, many))
+    states = _states(smudged, many)
     return tuple([cell for cell in range(smudged.land.cells) if _openness(states, cell) == "unsure"])

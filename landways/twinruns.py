@@ -3,8 +3,8 @@
 from landways.customs import Custom
 from landways.errors import BadHistory
 from landways.histories import History
-from landways.lands import Land, check_cells
-from landways.twinviews import TwinView, check_measure
+from landways.lands import Land
+from landways.twinviews import TwinView
 from landways.views import view_of
 
 
@@ -35,7 +35,6 @@ class TwinRun:
 
     def twins(self, cell):
         """Yield the cell's twin views, ahead of all deeds and behind each."""
-        check_cells(self.land, cell)
         for many in range(len(self.deeds) + 1):
             yield self._twin_at(many, cell)
 
@@ -49,12 +48,10 @@ class TwinRun:
 
     def differing(self, measure):
         """The cells whose twin view behind all deeds differs, ascending."""
-        check_measure(measure)
         return self._differing_at(len(self.deeds), measure)
 
     def differs_at(self, measure):
         """The least number of deeds behind which the twin view of some cell differs, or None."""
-        check_measure(measure)
         for many in range(len(self.deeds) + 1):
             if self._differing_at(many, measure):
                 return many

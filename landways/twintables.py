@@ -4,7 +4,6 @@ from landways.counted import meant
 from landways.errors import NoTwin, TooWide
 from landways.gathering import stepped_history
 from landways.histories import History
-from landways.lands import check_cells
 from landways.seeing import behind_plan
 from landways.steps import step_by_plan
 from landways.twinruns import TwinRun
@@ -110,7 +109,6 @@ def _new_rows(customs, counted, rows, begin, known, caches):
 def twin_table(land, one, other, cell, counted=None):
     """The table of all twin views of the cell that counted runs under the two customs bring about."""
     check_width(land)
-    check_cells(land, cell)
     truth = meant(counted)
     start = twin_start(land, cell)
     rows = [(start, 0, None, None)]

@@ -189,6 +189,8 @@ class JudgeOfAlike(unittest.TestCase):
     def test_tables(self):
         first, second, third = self.tables
         self.assertEqual(self.fault(), "tables")
+        for thing in (None, self.tables, 3, ()):
+            self.assertEqual(alike_fault(*self.asked, Alike(thing)), "tables")
         self.assertEqual(self.fault(first, second), "tables")
         self.assertEqual(self.fault(first, third, second), "tables")
         self.assertEqual(self.fault(first, second, third, third), "tables")
@@ -256,7 +258,8 @@ class JudgeOfUnlike(unittest.TestCase):
     def test_run(self):
         deeds = self.told.run.deeds
         for run in (None, deeds, self.told.run.first, TwinRun(VEE, BARE, KIND, [("goes", [0], 1, [])]),
-                    TwinRun(ROW, KIND, BARE, deeds), TwinRun(ROW, BARE, BARE, deeds), self.told.run.turned()):
+                    TwinRun(ROW, KIND, BARE, deeds), TwinRun(ROW, BARE, BARE, deeds), TwinRun(ROW, KIND, KIND, deeds),
+                    self.told.run.turned()):
             self.assertEqual(self.fault(run, self.told.cell), "run")
 
     def test_counted(self):

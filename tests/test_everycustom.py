@@ -112,6 +112,24 @@ class Rule(unittest.TestCase):
                     for word in words(clause):
                         self.check(one, one.changed(clause, word), some_counted(source))
 
+    def test_untold_rights_where_none_is_ever_awake(self):
+        for sold, kept in (("need", "need"), ("need", "none"), ("none", "need"), ("none", "none")):
+            for joined in words("joined"):
+                one = Custom("stay", joined, sold, kept, "never")
+                for first, second in (("stay", "die"), ("stay", "needed stay"), ("die", "needed stay")):
+                    for counted in (Counted(grants=False), Counted(False, True, True), Counted(False, False, True)):
+                        self.check(one.changed("untold", first), one.changed("untold", second), counted)
+
+    def test_untold_rights_by_hand(self):
+        one, counted = Custom("stay", "die", "need", "need", "never"), Counted(grants=False)
+        for first, second, expected in [("stay", "die", [False] * 3), ("stay", "needed stay", [True] * 3),
+                                        ("die", "needed stay", [False] * 3), ("needed stay", "stay", [True] * 3)]:
+            told = [are_alike_everywhere(one.changed("untold", first), one.changed("untold", second), counted, measure=measure)
+                    for measure in MEASURES]
+            self.assertEqual(told, expected)
+            sleepy = one.changed("joined", "sleep")
+            self.assertIs(are_alike_everywhere(sleepy.changed("untold", first), sleepy.changed("untold", second), counted), False)
+
     def test_nowhere_is_alike_by_open(self):
         for counted in counteds():
             none = [custom for custom in customs() if on_all_lands(custom, counted).nowhere]

@@ -214,6 +214,14 @@ class Prospects(unittest.TestCase):
         self.assertEqual([prospect(EXAMPLE, cell, told) for cell in (0, 1)], ["unsure", "safe"])
         self.assertEqual(sure_safe_cells(EXAMPLE, 0, told), (0,))
         self.assertEqual(sure_safe_cells(with_finding(EXAMPLE, 0, [(0, 1)]), 0, told), (0, 1))
+        # The right sleeps behind the first finding, and is dead behind the second one.
+        sleepy = Custom("die", "sleep", "none", "all", "never")
+        smudged = Smudged(PAIR, sleepy, [("goes", [1], 1, []), ("goes", [1], 2, [])], [("hand", 1, [0, 2])])
+        first, second = [history for _, history in lawful_fillings(smudged)]
+        told = Counted(grants=False, untold=False)
+        self.assertEqual((safe_cells(first, 0, told), safe_cells(second, 0, told)), ((0, 1), (0,)))
+        self.assertEqual((sure_safe_cells(smudged, 0, told), prospect(smudged, 0, told)), ((0,), "unsure"))
+        told = Counted(untold=False)
         self.assertEqual(prospect(with_finding(EXAMPLE, 0, [(0, 1)]), 0, told), "safe")
         self.assertEqual(prospect(with_finding(EXAMPLE, 0, []), 0, told), "exposed")
 

@@ -69,6 +69,8 @@ class Judge(unittest.TestCase):
                       Never(Table(past, 0, Counted(), table.rows[:-1])), Never(Table(past, False, Counted(), table.rows)),
                       Never(table_behind(with_grants(self.asked[0], 0, (1, 2)), 0))):
             self.assertEqual(self.fault(((lot, paper), second), self.bad), "good")
+        # A right verdict, but it tells that the lot does not keep the cell.
+        self.assertEqual(self.fault((((), self.bad[0][1]),), ()), "good")
         # The table is right, but the cell is shut off in it.
         history = History(ROW, BARE, [("goes", [2], 1, [])])
         told = keeping_grants(history, 2)
@@ -86,6 +88,9 @@ class Judge(unittest.TestCase):
         self.assertEqual((shut.steps, shut.history), (0, past))
         # Any history that begins with the grants and goes on by counted deeds will do.
         self.assertIsNone(self.fault(self.good, (((), Shut(0, past.then(("goes", [0], 2, [])), 0)),)))
+        # A right verdict, but it tells that the lot keeps the cell.
+        both = verdict_behind(with_grants(past, 0, (1, 2)), 0)
+        self.assertEqual(self.fault((), self.bad + self.good + (((1, 2), both),)), "bad")
         # A deed that is not counted.
         history = History(ROW, BARE.changed("kept", "all").changed("sold", "all"), [("goes", [2], 1, [])])
         dying = History(ROW, history.custom.changed("untold", "die"), history.deeds)

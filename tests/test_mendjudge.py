@@ -10,10 +10,10 @@ from landways.counted import Counted
 from landways.customs import Custom, custom_at
 from landways.everyland import EveryLand, on_all_lands, probe_land, shutting
 from landways.histories import History
-from landways.jointtables import JointTable, joint_table
+from landways.jointtables import JointTable, joint_table, joint_table_behind, joint_table_fault
 from landways.mendjudge import judgment_fault, mends_fault
 from landways.mends import Mends, least_mends
-from landways.tables import Table, view_table
+from landways.tables import Table, table_behind, view_table
 from landways.verdicts import Never, Shut, verdict_of
 from landways.wishes import Broken, EveryLandWish, Kept, LandWish, Needed, Wish, judge_wish
 from test_mends import drawn_cases
@@ -147,6 +147,12 @@ class Papers(unittest.TestCase):
         papers = [NeverMet("double", joint_table(ROW, BARE, one, two, NOTHING)) for one, two in ((0, 1), (0, 2), (1, 2))]
         self.assertIsNone(self.kept(three, BARE, *papers))
         self.assertEqual(self.kept(three, BARE, papers[0], papers[2], papers[1]), "paper")
+        # The tables are right, but tell of another past, other counted deeds or another custom.
+        moved = History(PAIR, BARE, [("goes", [0, 1], 1, [])])
+        for table in (joint_table_behind(moved, 0, 1, NOTHING), joint_table(PAIR, BARE, 0, 1),
+                      joint_table(PAIR, KIND, 0, 1, NOTHING), joint_table(PAIR, BARE, 1, 0, NOTHING)):
+            self.assertIsNone(joint_table_fault(table))
+            self.assertEqual(self.kept(wish, BARE, NeverMet("double", table)), "paper")
         # The tables are right, but a double burden is in them.
         papers = [NeverMet("double", joint_table(ROW, KIND, one, two, NOTHING)) for one, two in ((0, 1), (0, 2), (1, 2))]
         self.assertEqual(self.kept(three, KIND, *papers), "paper")
@@ -167,6 +173,7 @@ class Papers(unittest.TestCase):
                       Met("double", History(ROW, BARE, deeds), steps), Met("double", History(VEE, KIND, deeds), steps),
                       Met("double", History(ROW, KIND, right[:1]), 2), Met("double", History(ROW, KIND, ()), 2),
                       Met("double", History(ROW, KIND, right + unseen), 2),
+                      Met("double", History(ROW, KIND, [("goes", [0], 1, []), ("goes", [0], 0, [])]), 2),
                       Met("double", History(ROW, KIND, [("goes", [0], 1, []), ("goes", [0], 0, []), *right]), 2),
                       Met("double", History(ROW, KIND, [("goes", [0, 1], 1, []), ("goes", [1], 2, [])]), 2),
                       Met("double", History(ROW, KIND, [("goes", [0], 1, []), ("goes", [1], 2, [])]), 3)):
@@ -183,7 +190,9 @@ class Papers(unittest.TestCase):
         self.assertIsNone(self.kept(wish, KIND, *right))
         table = right[1]
         past = History(PAIR, KIND, [("goes", [1], 1, [])])
+        moved = History(PAIR, KIND, [("goes", [0, 1], 1, [])])
         for other in (right[0], view_table(PAIR, KIND, 1), view_table(PAIR, BARE, 1, NOTHING), Table(past, 1, NOTHING, table.rows),
+                      table_behind(moved, 1, NOTHING),
                       Table(table.past, True, NOTHING, table.rows), Table(table.past, 1, NOTHING, table.rows[:-1]),
                       Table(table.past, 1, NOTHING, ()), Table(table.past, 1, NOTHING, table.rows[::-1])):
             self.assertEqual(self.kept(wish, KIND, right[0], other), "paper")
@@ -316,6 +325,11 @@ class JudgeOfMends(unittest.TestCase):
                           Broken(self.wish, broken.custom, broken.thing, None),
                           Broken(self.wish, broken.custom, ("shut", (1,)), broken.paper)):
                 self.assertEqual(self.fault(good, bad[:k] + ((choice, paper),) + bad[k + 1:]), "bad")
+
+    def test_right_judgments_in_the_wrong_place(self):
+        told = [(choice, judge_wish(self.wish, self.pool.custom_by(BARE, choice))) for choice in self.pool.lawful_choices()]
+        self.assertEqual(self.fault((), tuple(told)), "bad")
+        self.assertEqual(self.fault(tuple(told[:1]), ()), "good")
 
     def test_two_faults_at_once(self):
         good, bad = self.mends.good, self.mends.bad

@@ -26,7 +26,7 @@ class Registers(unittest.TestCase):
         self.assertEqual((smudged.many, number_of_fillings(smudged)), (2, 2))
 
     def test_attributes(self):
-        deeds = [["goes", [2, 1], 3, [[1, 0], (0, 2)]], ("grant", [2, 1], (0,)), ("goes", (0,), 7, [])]
+        deeds = [["goes", [2, 1], 3, [[1, 0], (0, 2)]], ["grant", [2, 1], [0]], ("goes", (0,), 7, [])]
         smudged = Smudged(ROW, DYING, deeds, [["told", 2, [(2, 1), [1, 0], (0, 1)]], ("hand", 0, [9, 3, 5])])
         self.assertEqual((smudged.land, smudged.custom), (ROW, DYING))
         self.assertEqual(smudged.deeds, (("goes", (2, 1), 3, ((1, 0), (0, 2))), ("grant", (2, 1), (0,)),
@@ -114,6 +114,9 @@ class Fillings(unittest.TestCase):
                          [((1, 2),), ((0, 2), (1, 2)), ((1, 2),), ((0, 2), (1, 2))])
         self.assertEqual({history.deeds[1][3] for _, history in told}, {((0, 2),)})
         self.assertEqual(told[0][1], told[1][1])
+        lists = Smudged(ROW, DYING, [["goes", [2], 1, [[1, 2]]], deeds[1]], [("told", 0, [[0, 2], [1, 2]])])
+        self.assertEqual([history.deeds[0][3] for _, history in lawful_fillings(lists)],
+                         [((1, 2),), ((0, 2), (1, 2)), ((1, 2),), ((0, 2), (1, 2))])
 
     def test_the_hand_that_stands_there_counts_no_more(self):
         for hand in (0, 1, 2, 10 ** 30):
