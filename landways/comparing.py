@@ -48,15 +48,15 @@ def are_alike(land, one, other, counted=None, *, measure="standing"):
 
 
 def _is_table_of(land, one, other, counted, cell, table):
-    """Whether the thing is a twin table of the cell that is asked about what is asked."""
+    """Whether the thing is a twin table of the land, the customs, the counted deeds and the cell that are asked."""
     if not isinstance(table, TwinTable) or table.land != land or table.one != one or table.other != other:
         return False
     if not is_cell(land, table.cell) or table.cell != cell or table.counted != counted:
         return False
-    twins = [row[0] for row in table.rows]
-    if not all([isinstance(twin, TwinView) for twin in twins]):
+    told = [row[0] for row in table.rows]
+    if not all([isinstance(twin, TwinView) for twin in told]):
         return False
-    return all([twin.land == land and twin.cell == cell for twin in twins])
+    return all([twin.land == land and twin.cell == cell for twin in told])
 
 
 def _table_fault(land, measure, table):

@@ -84,21 +84,21 @@ def _remembered(cache, custom, view, plan):
     return cache[key]
 
 
-def _ends_of_plans(customs, counted, twin, caches):
+def _ends_of_plans(pair, counted, twin, caches):
     """For each counted step of the twin view, in order, its plan and the two views behind it."""
     rows = []
-    for plan in twin_plans(customs[0], customs[1], twin, counted):
-        first = _remembered(caches[0], customs[0], twin.one, plan)
-        rows.append((plan, first, _remembered(caches[1], customs[1], twin.other, plan)))
+    for plan in twin_plans(pair[0], pair[1], twin, counted):
+        first = _remembered(caches[0], pair[0], twin.one, plan)
+        rows.append((plan, first, _remembered(caches[1], pair[1], twin.other, plan)))
     return rows
 
 
-def _new_rows(customs, counted, rows, begin, known, caches):
+def _new_rows(pair, counted, rows, begin, known, caches):
     """The rows one step further than the rows from this index on, in order; what is found becomes known."""
     found = {}
     for index in range(begin, len(rows)):
         twin, distance, _, _ = rows[index]
-        for plan, first, second in _ends_of_plans(customs, counted, twin, caches):
+        for plan, first, second in _ends_of_plans(pair, counted, twin, caches):
             key = (first.number, second.number)
             if key not in known:
                 known[key] = True
