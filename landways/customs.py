@@ -86,6 +86,22 @@ def customs():
         yield custom_at(number)
 
 
+def custom_rows():
+    """The rows of all customs, by number."""
+    return [(untold, joined, sold, kept, ends) for untold in words("untold") for joined in words("joined")
+            for sold in words("sold") for kept in words("kept") for ends in words("ends")]
+
+
+def numbers_among(told):
+    """The numbers, ascending, of the customs whose words are among those told for their clauses, each in order."""
+    numbers = [0]
+    for clause, some in zip(CLAUSES, told):
+        known = _WORDS[clause]
+        places = [known.index(word) for word in some]
+        numbers = [number * len(known) + place for number in numbers for place in places]
+    return tuple(numbers)
+
+
 def differences(one, other):
     """The clauses in which two customs differ, in order."""
     return tuple([clause for clause in CLAUSES if one.word(clause) != other.word(clause)])

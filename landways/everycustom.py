@@ -2,8 +2,8 @@
 
 from landways.comparing import Unlike, compare_customs, first_unlike
 from landways.counted import meant
-from landways.customs import CLAUSES, MOST_CUSTOMS, check_sides, custom_at, words
-from landways.everyland import on_all_lands
+from landways.customs import CLAUSES, check_sides, custom_rows, numbers_among, words
+from landways.everyland import is_nowhere
 from landways.gathering import goes_told
 from landways.kinder import compare_kindness
 from landways.lands import Land
@@ -41,81 +41,74 @@ def trial_lands(measure):
     return _small_lands() + (_wide_land(),) if measure == "open" else _small_lands()
 
 
-def _uses_need(custom):
+# The rule of [8.8] asks for words alone, so it is told for the rows of customs, and no Custom is made for it. Of all
+# clauses only sold and kept have the words "all", "beside" and "need", and only joined has "sleep".
+
+def _sides(row):
+    """The words of sold and kept."""
+    return row[2:4]
+
+
+def _uses_need(row):
     """Whether rights can arise by need."""
-    return "need" in (custom.sold, custom.kept)
+    return "need" in row
 
 
-def _can_be_awake(custom, counted):
+def _can_be_awake(row, counted):
     """Whether a right can ever be awake."""
-    sides = (custom.sold, custom.kept)
-    if counted.grants or "all" in sides or "beside" in sides:
+    if counted.grants or "all" in row or "beside" in row:
         return True
-    return "need" in sides and custom.joined == "sleep"
+    return _uses_need(row) and "sleep" in row
 
 
-def _can_stand(custom, counted):
+def _can_stand(row, counted):
     """Whether a right can ever be awake or needed."""
-    return _can_be_awake(custom, counted) or _uses_need(custom)
+    return _uses_need(row) or _can_be_awake(row, counted)
 
 
-def _untold_alike(one, other, counted):
-    """Whether the words of the clause untold do the same to standings; all else does."""
-    if one.untold == other.untold or not counted.untold:
+def _alike_untold(row, counted):
+    """The words of the clause untold that do the same as that of the row, in order."""
+    if not counted.untold or not _can_stand(row, counted):
+        return words("untold")
+    own = row[0]
+    if not _uses_need(row):
+        # No right is ever needed, so none stays for being needed.
+        return ("stay",) if own == "stay" else ("die", "needed stay")
+    if own != "die" and not _can_be_awake(row, counted):
+        return ("stay", "needed stay")
+    return (own,)
+
+
+def _is_joined_idle(row, counted, measure):
+    """Whether the words of the clause joined do the same to standings, or else to what is passed."""
+    if not _can_stand(row, counted):
         return True
-    both = (one.untold, other.untold)
-    if "needed stay" not in both:
-        return not _can_stand(one, counted)
-    if "stay" in both:
-        return not _can_be_awake(one, counted)
-    return not _uses_need(one)
-
-
-def _standing_alike(one, other, counted):
-    """Whether no standing ever differs, on any land."""
-    if (one.sold, one.kept) != (other.sold, other.kept):
+    if measure == "standing":
         return False
-    if one.ends != other.ends and _uses_need(one):
-        return False
-    if one.joined != other.joined and _can_stand(one, counted):
-        return False
-    return _untold_alike(one, other, counted)
+    return _sides(row) == ("all", "all") or (_sides(row) == ("beside", "beside") and not counted.grants)
 
 
-def _joined_alike(one, other, counted):
-    """Whether the words of the clause joined do the same to what is passed, without need; all else does."""
-    if one.joined == other.joined:
-        return True
-    sides = (one.sold, one.kept)
-    if sides == ("all", "all"):
-        return True
-    return not counted.grants and sides in (("none", "none"), ("beside", "beside"))
+def _alike_words(row, counted, measure):
+    """For each clause the words, in order, of the customs that stand alike, or else pass alike, on all lands.
 
-
-def _passing_alike(one, other, counted):
-    """Whether no cell ever passes unlike cells, on any land."""
-    if (one.sold, one.kept) != (other.sold, other.kept):
-        return False
-    if _uses_need(one):
-        if one.joined != other.joined or one.ends != other.ends:
-            return False
-        both = (one.untold, other.untold)
-        staying = "stay" in both and "needed stay" in both and not _can_be_awake(one, counted)
-        return one.untold == other.untold or not counted.untold or staying
-    if not _joined_alike(one, other, counted):
-        return False
-    if one.untold == other.untold or not counted.untold:
-        return True
-    return "stay" not in (one.untold, other.untold) or not _can_stand(one, counted)
+    Just the customs of these words are alike to that of the row, and for each of them the same words are told.
+    """
+    _, joined, sold, kept, ends = row
+    return (_alike_untold(row, counted),
+            words("joined") if _is_joined_idle(row, counted, measure) else (joined,),
+            (sold,),
+            (kept,),
+            (ends,) if _uses_need(row) else words("ends"))
 
 
 def _are_alike(one, other, counted, measure):
-    """Whether the two customs are alike on all lands, by the rule of [8.8]."""
-    if measure == "standing":
-        return _standing_alike(one, other, counted)
-    if _passing_alike(one, other, counted):
+    """Whether the customs of the two rows are alike on all lands, by the rule of [8.8]."""
+    if measure == "open" and is_nowhere(one, counted) and is_nowhere(other, counted):
         return True
-    return measure == "open" and on_all_lands(one, counted).nowhere and on_all_lands(other, counted).nowhere
+    # Unlike sides tell most customs apart, without all the words.
+    if _sides(one) != _sides(other):
+        return False
+    return _alike_words(one, counted, measure) == _alike_words(other, counted, measure)
 
 
 def _loose_run(one, other, measure):
@@ -130,7 +123,7 @@ def compare_everywhere(one, other, counted=None, *, measure="standing"):
     """Whether the two customs are alike on all lands, or else a run that tells them apart."""
     check_measure(measure)
     truth = meant(counted)
-    if _are_alike(one, other, truth, measure):
+    if _are_alike(one.row, other.row, truth, measure):
         return OnAllLands(one, other, truth, measure)
     for land in _small_lands():
         told = compare_customs(land, one, other, truth, measure=measure)
@@ -142,39 +135,41 @@ def compare_everywhere(one, other, counted=None, *, measure="standing"):
 def are_alike_everywhere(one, other, counted=None, *, measure="standing"):
     """Whether the two customs are alike on all lands."""
     check_measure(measure)
-    return _are_alike(one, other, meant(counted), measure)
-
-
-def _alike_from(first, custom, counted, measure):
-    """The numbers, from this one on, of the customs that are alike to the custom on all lands."""
-    return tuple([number for number in range(first, MOST_CUSTOMS)
-                  if _are_alike(custom, custom_at(number), counted, measure)])
+    return _are_alike(one.row, other.row, meant(counted), measure)
 
 
 def alike_customs(custom, counted=None, *, measure="standing"):
     """The numbers of all customs that are alike to the custom on all lands, ascending."""
     check_measure(measure)
-    return _alike_from(0, custom, meant(counted), measure)
+    truth = meant(counted)
+    if measure == "open" and is_nowhere(custom.row, truth):
+        return tuple([number for number, row in enumerate(custom_rows()) if is_nowhere(row, truth)])
+    return numbers_among(_alike_words(custom.row, truth, measure))
 
 
 def custom_classes(counted=None, *, measure="standing"):
     """Yield the numbers of each class of customs that are alike on all lands, by their first numbers."""
     check_measure(measure)
     truth = meant(counted)
-    known = {}
-    for number in range(MOST_CUSTOMS):
-        if number not in known:
-            found = _alike_from(number, custom_at(number), truth, measure)
-            known.update({other: True for other in found})
-            yield found
+    found = {}
+    for number, row in enumerate(custom_rows()):
+        mark = _alike_words(row, truth, measure)
+        if measure == "open" and is_nowhere(row, truth):
+            # All customs under which no cell is ever shut off are alike, whatever their words.
+            mark = ()
+        found.setdefault(mark, []).append(number)
+    for numbers in found.values():
+        yield tuple(numbers)
 
 
 def idle_everywhere(custom, counted=None, *, measure="standing"):
     """The clauses all of whose words are alike on all lands, in order."""
     check_measure(measure)
     truth = meant(counted)
-    return tuple([clause for clause in CLAUSES
-                  if all([_are_alike(custom, custom.changed(clause, word), truth, measure) for word in words(clause)])])
+    row = custom.row
+    return tuple([clause for at, clause in enumerate(CLAUSES)
+                  if all([_are_alike(row, row[:at] + (word,) + row[at + 1:], truth, measure)
+                          for word in words(clause)])])
 
 
 def kinder_everywhere(one, other, counted=None):

@@ -68,25 +68,26 @@ class EveryLand:
         return tuple([cell for cell in range(land.cells) if self.fewest(land, cell) is not None])
 
 
-def _case(custom, counted, sort):
-    """The first case of [6.2] that applies to cells of this sort, or None if they are never shut off."""
-    both = (custom.sold, custom.kept)
+def _case(row, counted, sort):
+    """The first case of [6.2] that applies to cells of this sort under the custom of the row, or None if none does."""
+    untold, joined, sold, kept, _ = row
+    both = (sold, kept)
     if "none" in both:
         return "bare"
     if sort == "far" and "beside" in both:
         return "bare"
     if counted.giving_up:
         return "given up"
-    if counted.untold and custom.untold == "die":
+    if counted.untold and untold == "die":
         return "untold"
-    staying = counted.untold and custom.untold == "needed stay"
+    staying = counted.untold and untold == "needed stay"
     if staying and both != ("need", "need"):
         return "untold"
     if sort == "loose" and "beside" in both and "need" in both:
         return "by turns"
     if staying and counted.grants:
         return "granted"
-    return "woken" if staying and custom.joined == "sleep" else None
+    return "woken" if staying and joined == "sleep" else None
 
 
 # How many deeds the cases of [6.2] take.
@@ -96,8 +97,15 @@ _DEEDS = {"bare": 1, "given up": 2, "untold": 2, "by turns": 2, "granted": 3, "w
 def on_all_lands(custom, counted=None):
     """The fewest deeds for the cells of each sort, on all lands."""
     truth = meant(counted)
-    far, loose, bound = [_DEEDS.get(_case(custom, truth, sort)) for sort in SORTS]
+    far, loose, bound = [_DEEDS.get(_case(custom.row, truth, sort)) for sort in SORTS]
     return EveryLand(custom, truth, far, loose, bound)
+
+
+def is_nowhere(row, counted):
+    """Whether no cell is ever shut off on any land under the custom of this row."""
+    # Far cells are shut off wherever others are: of the cases of [6.2] "by turns" alone is not for them, and where it
+    # applies to loose cells, "beside" shuts far ones off.
+    return _case(row, counted, "far") is None
 
 
 def fewest_deeds(land, custom, cell, counted=None):
@@ -148,7 +156,7 @@ def shutting(land, custom, cell, counted=None):
     """A history of as few counted deeds as possible behind which the cell is shut off, or None."""
     check_cells(land, cell)
     sort = sort_of(land, cell)
-    case = None if sort == "road" else _case(custom, meant(counted), sort)
+    case = None if sort == "road" else _case(custom.row, meant(counted), sort)
     if case is None:
         return None
     if case == "bare":

@@ -1,10 +1,12 @@
 """[2.1], [2.2], [2.3]: clauses, customs and their numbers."""
 
+import random
 import unittest
 from itertools import product
 
 from helpers import NO_NUMBERS, caught
-from landways.customs import CLAUSES, Custom, custom_at, customs, differences, words
+from landways.customs import (CLAUSES, Custom, custom_at, custom_rows, customs, differences, numbers_among,
+                              words)
 
 WORDS = {
     "untold": ("stay", "die", "needed stay"),
@@ -127,6 +129,21 @@ class Numbering(unittest.TestCase):
 
     def test_it_is_a_generator(self):
         self.assertEqual(next(customs()).number, 0)
+
+    def test_rows_of_all(self):
+        self.assertEqual(custom_rows(), ROWS)
+        kept = custom_rows()
+        kept.clear()
+        self.assertEqual(custom_rows(), ROWS)
+
+    def test_numbers_of_all_with_some_words(self):
+        source = random.Random(21)
+        for _ in range(200):
+            told = [tuple(word for word in WORDS[clause] if source.random() < 0.6) for clause in CLAUSES]
+            self.assertEqual(numbers_among(told), tuple(number for number, row in enumerate(ROWS)
+                                                        if all(word in some for word, some in zip(row, told))))
+        self.assertEqual(numbers_among([WORDS[clause] for clause in CLAUSES]), tuple(range(192)))
+        self.assertEqual(numbers_among([(word,) for word in EXAMPLE.row]), (39,))
 
     def test_other_numbers(self):
         for thing in (-1, 192, 10 ** 50, *NO_NUMBERS):

@@ -1,6 +1,8 @@
 """[8.8], [8.9], [8.10]: customs that are alike, or kinder, on all lands."""
 
+import hashlib
 import random
+import sys
 import unittest
 
 from helpers import FORK, PAIR, RING, ROW, VEE, caught, some_counted, some_deeds, tuples_only
@@ -25,6 +27,62 @@ D = Land(4, [(0, 1), (0, 2), (2, 3)], [1, 3])
 TURNED = Custom("stay", "die", "need", "beside", "never")
 EXAMPLE = Custom("stay", "die", "beside", "need", "never")
 TOLD = Counted(untold=False)
+# What repr tells of the lists of classes for all eight Counteds and, for each, all three measures, as a SHA-256.
+ALL_CLASSES = "4f0f28e95a19873fa518f28edebdba3940fe0af1366070695063f505edeeaf2a"
+
+
+def untold_told_again(one, other, counted):
+    """What the rule of [8.8] says of the clause untold, for standings."""
+    both = {one.untold, other.untold}
+    need = "need" in (one.sold, one.kept)
+    awake = (counted.grants or not {"all", "beside"}.isdisjoint({one.sold, one.kept}) or (need and one.joined == "sleep"))
+    return (len(both) == 1 or not counted.untold or (both == {"stay", "die"} and not awake and not need)
+            or (both == {"stay", "needed stay"} and not awake) or (both == {"die", "needed stay"} and not need))
+
+
+def passing_told_again(one, other, counted):
+    """The rule of [8.8] by "passing", for customs with the same sold and kept."""
+    sides = (one.sold, one.kept)
+    same_untold = one.untold == other.untold or not counted.untold
+    if "need" in sides:
+        awake = counted.grants or "all" in sides or "beside" in sides or one.joined == "sleep"
+        staying = {one.untold, other.untold} == {"stay", "needed stay"} and not awake
+        return one.joined == other.joined and one.ends == other.ends and (same_untold or staying)
+    joined = (one.joined == other.joined or sides == ("all", "all")
+              or (not counted.grants and sides in (("none", "none"), ("beside", "beside"))))
+    stand = counted.grants or "all" in sides or "beside" in sides
+    return joined and (same_untold or "stay" not in (one.untold, other.untold) or not stand)
+
+
+def alike_told_again(one, other, counted, measure):
+    """The rule of [8.8] for two customs, point by point."""
+    sides = (one.sold, one.kept)
+    if measure == "open" and on_all_lands(one, counted).nowhere and on_all_lands(other, counted).nowhere:
+        return True
+    if sides != (other.sold, other.kept):
+        return False
+    if measure != "standing":
+        return passing_told_again(one, other, counted)
+    stand = counted.grants or sides != ("none", "none")
+    return ((one.ends == other.ends or "need" not in sides) and (one.joined == other.joined or not stand)
+            and untold_told_again(one, other, counted))
+
+
+def many_calls(ask):
+    """How many functions and methods, Python's own among them, are called by this one."""
+    calls = []
+
+    def note(frame, event, thing):
+        if event in ("call", "c_call"):
+            calls.append(event)
+
+    before = sys.getprofile()
+    sys.setprofile(note)
+    try:
+        ask()
+    finally:
+        sys.setprofile(before)
+    return len(calls)
 
 
 def alike_on_small_lands(one, other, counted, measure):
@@ -240,11 +298,65 @@ class ClassesOfCustoms(unittest.TestCase):
                 self.assertTrue(all(list(one) == sorted(one) for one in told))
 
     def test_alike_customs_are_the_class(self):
-        for counted in (Counted(), TOLD, Counted(False, False, False)):
+        for counted in counteds():
             for measure in MEASURES:
                 for one in custom_classes(counted, measure=measure):
                     for number in one:
                         self.assertEqual(alike_customs(custom_at(number), counted, measure=measure), one)
+
+    def test_all_against_the_rule_told_again(self):
+        every = list(customs())
+        for counted in counteds():
+            for measure in MEASURES:
+                case = (vars(counted), measure)
+                rows = [tuple(other.number for other in every if alike_told_again(one, other, counted, measure)) for one in every]
+                self.assertEqual([alike_customs(one, counted, measure=measure) for one in every], rows, case)
+                self.assertEqual(list(custom_classes(counted, measure=measure)),
+                                 [row for number, row in enumerate(rows) if row[0] == number], case)
+                for one in every[::3]:
+                    told = tuple(other.number for other in every if are_alike_everywhere(one, other, counted, measure=measure))
+                    self.assertEqual(told, rows[one.number], case)
+
+    def test_all_lists_of_classes_together(self):
+        told = [[list(custom_classes(counted, measure=measure)) for measure in MEASURES] for counted in counteds()]
+        self.assertEqual(hashlib.sha256(repr(told).encode()).hexdigest(), ALL_CLASSES)
+
+    def test_what_is_nowhere_shut_off_is_one_class_by_open(self):
+        # "stay" with "all" or "need" on both sides; where nothing goes untold, every word of untold.
+        kind = [custom.number for custom in customs() if {custom.sold, custom.kept} <= {"all", "need"}]
+        staying = tuple(number for number in kind if custom_at(number).untold == "stay")
+        self.assertEqual((len(kind), staying), (48, (10, 11, 14, 15, 26, 27, 30, 31, 42, 43, 46, 47, 58, 59, 62, 63)))
+        self.assertIn(staying, list(custom_classes(measure="open")))
+        self.assertEqual([alike_customs(custom_at(number), measure="open") for number in staying], [staying] * 16)
+        self.assertIn(tuple(kind), list(custom_classes(TOLD, measure="open")))
+        self.assertEqual([alike_customs(custom_at(number), TOLD, measure="open") for number in kind], [tuple(kind)] * 48)
+        # Without grants a needed right can be awake only where it slept.
+        bare = Counted(grants=False)
+        more = [number for number in kind if custom_at(number).row[:4] == ("needed stay", "die", "need", "need")]
+        self.assertEqual(alike_customs(custom_at(10), bare, measure="open"), staying + tuple(more))
+        # Where rights are given up, each cell can be shut off, and no custom is alike to all of these.
+        self.assertEqual(len(alike_customs(custom_at(10), Counted(giving_up=True), measure="open")), 4)
+
+    def test_what_is_told_is_new(self):
+        for measure in MEASURES:
+            for one, other in zip(list(custom_classes(TOLD, measure=measure)), list(custom_classes(TOLD, measure=measure))):
+                self.assertEqual(one, other)
+                self.assertIsNot(one, other)
+                custom = custom_at(one[0])
+                self.assertIsNot(alike_customs(custom, TOLD, measure=measure), alike_customs(custom, TOLD, measure=measure))
+
+    def test_classes_are_told_one_by_one(self):
+        told = custom_classes(TOLD, measure="open")
+        first = next(told)
+        self.assertEqual([first, *told], list(custom_classes(TOLD, measure="open")))
+
+    def test_they_are_told_without_asking_each_pair(self):
+        # There are 192 customs and 18336 pairs of them. Calls are counted, since no clock counts alike each time.
+        for counted in counteds():
+            for measure in MEASURES:
+                self.assertLess(many_calls(lambda: list(custom_classes(counted, measure=measure))), 50 * 192)
+                for custom in list(customs())[::5]:
+                    self.assertLess(many_calls(lambda: alike_customs(custom, counted, measure=measure)), 6 * 192)
 
     def test_a_custom_alone_and_one_with_many(self):
         one = Custom("needed stay", "sleep", "need", "need", "free")

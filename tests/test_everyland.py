@@ -6,7 +6,7 @@ import oracle
 from helpers import CHAIN, FORK, HOUSE, LANDS, NO_NUMBERS, PAIR, RING, ROW, caught
 from landways.counted import Counted, counteds
 from landways.customs import Custom, custom_at, customs
-from landways.everyland import EveryLand, fewest_deeds, on_all_lands, probe_land, shutting, sort_of
+from landways.everyland import EveryLand, fewest_deeds, is_nowhere, on_all_lands, probe_land, shutting, sort_of
 from landways.histories import History
 from landways.landforms import all_lands
 from landways.lands import Land
@@ -172,6 +172,7 @@ class Asking(unittest.TestCase):
                 self.assertIs(every.nowhere, three == (None, None, None))
                 self.assertIs(every.everywhere, None not in three)
                 self.assertEqual((every.custom, every.counted), (custom, counted))
+                self.assertIs(is_nowhere(custom.row, counted), every.nowhere)
 
     def test_numbers_that_no_function_has_told(self):
         for k in range(8):
